@@ -1,0 +1,1 @@
+"""Stringrooms: rooms of plans, told by strings and bands."""
