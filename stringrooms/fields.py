@@ -224,6 +224,11 @@ def reduced(rows, prime):
     return tuple(tuple(kept[place]) for place in places)
 
 
+def leading_places(base):
+    """Return the leading places of a reduced basis: the first number of a row that is not 0 is 1."""
+    return [row.index(1) for row in base]
+
+
 def rank(rows, prime):
     """Return how many rows the reduced basis of rows has."""
     return len(_leading_rows(rows, prime))
@@ -235,7 +240,7 @@ def kernel(rows, prime):
     # Taken from the last number on, free numbers come to stand at leading places.
     about = rows[::-1]
     base = reduced(list(zip(*about)), prime)
-    leading = [row.index(1) for row in base]
+    leading = leading_places(base)
     found = []
     for free in range(many):
         if many - 1 - free not in leading:

@@ -24,6 +24,39 @@ TOLD = {
               " poly_power(prime,poly,steps) is_irreducible(prime,poly) factors(prime,poly) power_of(prime,poly)"
               " undone(prime,poly) irreducible_number(prime,steps) irreducibles(prime,steps) reduced(rows,prime)"
               " rank(rows,prime) kernel(rows,prime)",
+    "tables": "flipped(rows,width) times(rows,others,prime,width) one(size) solved(rows,prime,goal) undo(rows,prime)"
+              " determinant(rows,prime) power(rows,prime,steps) own_poly(rows,prime) poly_table(prime,poly)"
+              " poly_at(rows,prime,poly) divisors(rows,prime) least_poly(rows,prime) span(rows,others,prime)"
+              " meet(rows,others,prime) free_places(rows,prime,width) rest_row(row,base,prime)",
+    "rooms": "check_room(plan,prime,value) empty_room(plan) place_units(plan,walk) string_room(plan,walk)"
+             " band_room(plan,prime,letters,poly) part_room(plan,prime,part) sum_room(plan,several)"
+             " parts_room(plan,prime,several) way_table(plan,prime,room,point,arrows) changed(plan,prime,room,told)"
+             " dual_room(plan,prime,room) led(plan,prime,room,told) is_closed(plan,prime,room,told)"
+             " sub_room(plan,prime,room,told) left_room(plan,prime,room,told) common(plan,prime,room)"
+             " reached(plan,prime,room)",
+    "apart": "pairs_along(plan,prime,room,walk) number_along(plan,prime,room,walk) strings_in(plan,prime,room)"
+             " rounds_in(plan,prime,room) parts_of_room(plan,prime,room) round_divisors(plan,prime,room,letters)"
+             " alike(plan,prime,room,other)",
+    "homs": "map_basis(plan,prime,room,other) map_size(plan,prime,room,other) is_map(plan,prime,room,other,told)"
+            " map_kernel(plan,prime,room,other,told) map_image(plan,prime,room,other,told)"
+            " after(plan,prime,room,other,third,told,next_told) is_alike_map(plan,prime,room,other,told)"
+            " alike_map(plan,prime,room,other) split(plan,prime,room,part) apart_map(plan,prime,room)",
+    "pieces": "piece_of(plan,walk,first,last) let_go(plan,walk) taken_in(plan,walk) map_pairs(plan,walk,other)"
+              " map_number(plan,walk,other) round_let_go(plan,letters,most) round_taken_in(plan,letters,most)"
+              " pairs_to_round(plan,walk,letters) pairs_from_round(plan,letters,walk)"
+              " pairs_of_rounds(plan,letters,others) part_number(plan,prime,one,other)",
+    "maps": "pair_map(plan,walk,other,pair) told_by(plan,prime,walk,other,rows)"
+            " behind(plan,walk,other,third,pair,next_pair) through(plan,walk,third,other) own_pairs(plan,walk)"
+            " is_brick(plan,walk) vanishing(plan,walk) parts_of(plan,walk,other,pair) is_onto(plan,walk,other,pair)"
+            " is_one_to_one(plan,walk,other,pair)",
+    "layers": "tops(plan,walk) low_places(plan,walk) round_tops(plan,letters) round_low_places(plan,letters)"
+              " hull_of(plan,point) cover_points(plan,walk) hull_points(plan,walk) sub_strings(plan,walk)"
+              " let_go_strings(plan,walk) closed_number(plan,walk) closed_sets(plan,walk)"
+              " set_strings(plan,walk,places) depths(plan,walk) heights(plan,walk) layers(plan,walk) feet(plan,walk)"
+              " layer_number(plan,walk) way_rank(plan,walk,point,arrows)",
+    "translating": "hooks(plan,string) pulled(plan,string) forth(plan,string) back(plan,string) middle(plan,string)"
+                   " back_middle(plan,string) almost_split(plan,string) forth_times(plan,string,number)",
+    "roads": "road(plan,string,most) road_back(plan,string,most) rows_of(plan,string,most) grows(plan,string)",
 }
 
 

@@ -4,8 +4,9 @@ import copy
 import random
 import unittest
 
-from stringrooms import counting, fields, forms, plans, rounds, walks, ways
-from tests import naive
+from stringrooms import apart, counting, fields, forms, homs, layers, maps, pieces, plans, roads, rooms, rounds
+from stringrooms import tables, translating, walks, ways
+from tests import naive, naive_rooms
 
 
 def is_plain(value):
@@ -54,11 +55,74 @@ def calls(rng, plan):
     yield from [(f, (rows, prime)) for f in (fields.reduced, fields.rank, fields.kernel)]
 
 
+def room_calls(rng, plan):
+    """Calls of the functions of rooms, maps and translated strings with drawn arguments."""
+    prime = rng.choice(naive.PRIMES)
+    square = naive_rooms.drawn_table(rng, prime, 3, 3)
+    yield from [(f, (square, prime)) for f in (
+        tables.undo, tables.determinant, tables.own_poly, tables.least_poly, tables.divisors)]
+    yield from [(tables.flipped, (square, 3)), (tables.times, (square, square, prime, 3)), (tables.one, (3,)),
+                (tables.solved, (square, prime, square[2])), (tables.power, (square, prime, 10 ** 30)),
+                (tables.poly_at, (square, prime, (1, 1))), (tables.poly_table, (prime, (1, 1))),
+                (tables.span, (square[:1], square[1:], prime)), (tables.meet, (square[:2], square[1:], prime)),
+                (tables.free_places, (square, prime, 3)),
+                (tables.rest_row, (square[0], fields.reduced(square[1:], prime), prime))]
+    walk, other = naive.drawn_walk(rng, plan, 6), naive.drawn_walk(rng, plan, 6)
+    room = naive_rooms.drawn_room(rng, plan, prime)
+    goal = rooms.string_room(plan, other)
+    lot = rooms.led(plan, prime, room, tuple(naive_rooms.drawn_table(rng, prime, 1, n) for n in room[0]))
+    parts = naive_rooms.drawn_parts(rng, plan, prime, 10, 3) + (("string", walk),)
+    yield from [(f, (plan, prime, room)) for f in (
+        rooms.check_room, rooms.dual_room, rooms.common, rooms.reached, apart.strings_in, apart.rounds_in,
+        apart.parts_of_room, homs.apart_map)]
+    yield from [(f, (plan, prime, room, lot)) for f in (rooms.led, rooms.is_closed, rooms.sub_room, rooms.left_room)]
+    yield from [(f, (plan, prime, room, walk)) for f in (apart.pairs_along, apart.number_along)]
+    yield from [(f, (plan, prime, room, goal)) for f in (
+        homs.map_basis, homs.map_size, homs.alike_map, apart.alike)]
+    yield from [(rooms.empty_room, (plan,)), (rooms.sum_room, (plan, (room, goal))),
+                (rooms.parts_room, (plan, prime, parts)), (rooms.part_room, (plan, prime, parts[0])),
+                (rooms.way_table, (plan, prime, room, 0, ())),
+                (rooms.changed, (plan, prime, room, tuple(naive_rooms.eye(n) for n in room[0]))),
+                (homs.split, (plan, prime, rooms.parts_room(plan, prime, parts[-1:]), parts[-1])),
+                (pieces.part_number, (plan, prime, parts[0], parts[-1]))]
+    zero = tuple(tuple((0,) * b for _ in range(a)) for a, b in zip(room[0], goal[0]))
+    yield from [(f, (plan, prime, room, goal, zero)) for f in (
+        homs.is_map, homs.is_alike_map, homs.map_kernel, homs.map_image)]
+    back = tuple(tuple((0,) * b for _ in range(a)) for a, b in zip(goal[0], room[0]))
+    yield (homs.after, (plan, prime, room, goal, room, zero, back))
+    yield from [(f, (plan, walk)) for f in (
+        rooms.place_units, rooms.string_room, pieces.let_go, pieces.taken_in, maps.own_pairs, maps.is_brick,
+        maps.vanishing, layers.tops, layers.low_places, layers.cover_points, layers.hull_points, layers.sub_strings,
+        layers.let_go_strings, layers.closed_number, layers.closed_sets, layers.depths, layers.heights, layers.layers,
+        layers.feet, layers.layer_number, translating.hooks, translating.pulled, translating.forth, translating.back,
+        translating.middle, translating.back_middle, translating.almost_split, roads.grows)]
+    yield from [(f, (plan, walk, 9)) for f in (
+        translating.forth_times, roads.road, roads.road_back, roads.rows_of)]
+    yield from [(pieces.piece_of, (plan, walk, 0, 0)), (layers.set_strings, (plan, walk, ())),
+                (layers.way_rank, (plan, walk, walk[0], ())), (layers.hull_of, (plan, walk[0])),
+                (pieces.map_pairs, (plan, walk, other)), (pieces.map_number, (plan, walk, other)),
+                (maps.through, (plan, walk, walk, other))]
+    pairs = pieces.map_pairs(plan, walk, other)
+    if pairs:
+        whole = (0, len(other[1]), 0, len(other[1]), 1)
+        yield from [(f, (plan, walk, other, pairs[0])) for f in (
+            maps.pair_map, maps.parts_of, maps.is_onto, maps.is_one_to_one)]
+        yield (maps.behind, (plan, walk, other, other, pairs[0], whole))
+        yield (maps.told_by, (plan, prime, walk, other, maps.pair_map(plan, walk, other, pairs[0])))
+    row = naive.drawn_round(rng, plan, 6)
+    if row:
+        yield from [(f, (plan, row)) for f in (layers.round_tops, layers.round_low_places)]
+        yield from [(f, (plan, row, 9)) for f in (pieces.round_let_go, pieces.round_taken_in)]
+        yield from [(pieces.pairs_to_round, (plan, walk, row)), (pieces.pairs_from_round, (plan, row, walk)),
+                    (pieces.pairs_of_rounds, (plan, row, row)), (rooms.band_room, (plan, prime, row, (1, 0))),
+                    (apart.round_divisors, (plan, prime, room, row))]
+
+
 class Throughout(unittest.TestCase):
     def test_calls(self):
         rng = random.Random(80)
-        for plan in naive.plans_for(80, 40):
-            for function, told in calls(rng, plan):
+        for plan in naive.plans_for(80, 40, 5):
+            for function, told in list(calls(rng, plan)) + list(room_calls(rng, plan)):
                 before = copy.deepcopy(told)
                 results = [naive.raised(function, *told) for _ in range(2)]
                 self.assertEqual(told, before, function)
