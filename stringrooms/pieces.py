@@ -31,42 +31,38 @@ def _letter(line, place):
     return letters[place] if 0 <= place < len(letters) else None
 
 
-def _may_begin_let_go(line, place):
+def _exchanged(line):
+    """Return the line with all its arrows turned: what was taken in is let go."""
+    points, letters, endless = line
+    return (points, tuple(-1 - letter for letter in letters), endless)
+
+
+def _may_begin(line, place):
+    """Tell whether a piece that is let go may begin at a place."""
     letter = _letter(line, place - 1)
     return letter is None or letter < 0
 
 
-def _may_end_let_go(line, place):
+def _may_end(line, place):
+    """Tell whether a piece that is let go may end at a place."""
     letter = _letter(line, place)
     return letter is None or letter >= 0
-
-
-def _may_begin_taken_in(line, place):
-    letter = _letter(line, place - 1)
-    return letter is None or letter >= 0
-
-
-def _may_end_taken_in(line, place):
-    letter = _letter(line, place)
-    return letter is None or letter < 0
 
 
 def let_go(plan, walk):
     """Return the pairs (I, J) of all pieces of a walk that are let go, ascending."""
-    line = _walk_line(plan, walk)
-    places = range(len(line[0]))
-    ends = [place for place in places if _may_end_let_go(line, place)]
-    return tuple((first, last) for first in places if _may_begin_let_go(line, first)
-                 for last in ends if first <= last)
+    return _let_go(_walk_line(plan, walk))
 
 
 def taken_in(plan, walk):
     """Return the pairs (I, J) of all pieces of a walk that are taken in, ascending."""
-    line = _walk_line(plan, walk)
-    places = range(len(line[0]))
-    ends = [place for place in places if _may_end_taken_in(line, place)]
-    return tuple((first, last) for first in places if _may_begin_taken_in(line, first)
-                 for last in ends if first <= last)
+    return _let_go(_exchanged(_walk_line(plan, walk)))
+
+
+def _let_go(line):
+    many = len(line[0])
+    ends = [place for place in range(many) if _may_end(line, place)]
+    return tuple((first, last) for first in range(many) if _may_begin(line, first) for last in ends if first <= last)
 
 
 def _runs(line, other):
@@ -76,19 +72,20 @@ def _runs(line, other):
     both ends one goes on along where the other one goes on against: each pair
     is a longest row that reads alike, one at most for two places to begin at.
     """
-    begins = [place for place in range(len(line[0])) if _may_begin_let_go(line, place)]
+    begins = [place for place in range(len(line[0])) if _may_begin(line, place)]
+    goal = _exchanged(other)
     found = []
     for place in range(len(other[0])):
         fitting = [first for first in begins if line[0][first] == other[0][place]]
-        if _may_begin_taken_in(other, place):
+        if _may_begin(goal, place):
             for first in fitting:
                 steps = _steps_alike(line, first, other, place)
-                if _may_end_let_go(line, first + steps) and _may_end_taken_in(other, place + steps):
+                if _may_end(line, first + steps) and _may_end(goal, place + steps):
                     found.append((first, steps, place, 1))
-        if _may_end_taken_in(other, place):
+        if _may_end(goal, place):
             for first in fitting:
                 steps = _steps_turned(line, first, other, place)
-                if steps > 0 and _may_end_let_go(line, first + steps) and _may_begin_taken_in(other, place - steps):
+                if steps > 0 and _may_end(line, first + steps) and _may_begin(goal, place - steps):
                     found.append((first, steps, place - steps, -1))
     return found
 
@@ -134,20 +131,24 @@ def map_number(plan, walk, other):
 def round_let_go(plan, letters, most):
     """Return the triples (FIRST, LENGTH, WALK) of the pieces of a round that are let go, ascending."""
     line = _round_line(plan, letters)
-    return tuple(_round_piece(line, first, length) for first in range(len(letters)) if _may_begin_let_go(line, first)
-                 for length in range(most + 1) if _may_end_let_go(line, first + length))
+    return _round_pieces(line, line, most)
 
 
 def round_taken_in(plan, letters, most):
     """Return the triples (FIRST, LENGTH, WALK) of the pieces of a round that are taken in, ascending."""
     line = _round_line(plan, letters)
-    return tuple(_round_piece(line, first, length) for first in range(len(letters)) if _may_begin_taken_in(line, first)
-                 for length in range(most + 1) if _may_end_taken_in(line, first + length))
+    return _round_pieces(line, _exchanged(line), most)
 
 
-def _round_piece(line, first, length):
-    row = tuple(_letter(line, place) for place in range(first, first + length))
-    return (first, length, (line[0][first], row))
+def _round_pieces(line, reading, most):
+    """Return the pieces of a round of at most so many letters that are let go in another reading of it."""
+    found = []
+    for first in range(len(line[0])):
+        if _may_begin(reading, first):
+            row = tuple(_letter(line, place) for place in range(first, first + most))
+            found.extend([(first, length, (line[0][first], row[:length])) for length in range(most + 1)
+                          if _may_end(reading, first + length)])
+    return tuple(found)
 
 
 def pairs_to_round(plan, walk, letters):

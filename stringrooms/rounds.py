@@ -39,7 +39,7 @@ def begun_at(letters, place):
 def band_place(plan, letters):
     """Return (K, 1) if the band is the round begun at K, (K, -1) if it is the turned round begun at K."""
     about = turned_round(letters)
-    places = range(len(letters))
+    places = list(range(len(letters)))
     _, place, way = min([(begun_at(letters, place), place, 1) for place in places]
                         + [(begun_at(about, place), place, -1) for place in places])
     return (place, way)

@@ -77,6 +77,7 @@ class Bases(unittest.TestCase):
         self.assertEqual(homs.map_size(two, 2, ((10, 10), ()), ((10, 5), ())), 150)
         for call in (homs.map_basis, homs.map_size):
             self.assertEqual(raised(call, two, 2, ((10, 10), ()), ((10, 6), ())), ("TooGreat", 150))
+            self.assertEqual(raised(call, (3, (), ()), 2, ((10, 10, 1), ()), ((10, 5, 1), ())), ("TooGreat", 150))
             self.assertEqual(raised(call, POINT, 2, ((1,), ()), ((151,), ())), ("TooGreat", 150))
             self.assertNotEqual(raised(call, POINT, 2, ((6,), ()), ((25,), ())), ("TooGreat", 150))
         units = ((39, 1), (((0,),) * 39,) * 2)

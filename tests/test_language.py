@@ -100,7 +100,7 @@ class Language(unittest.TestCase):
                     self.assertFalse(node.name in taken, (name, node.name))
                     if isinstance(node, ast.FunctionDef):
                         for argument in node.args.args:
-                            self.assertFalse(argument.arg in taken | imported, (name, argument.arg, node.lineno))
+                            self.assertFalse(argument.arg in taken | imported | functions, (name, argument.arg))
                 elif isinstance(node, ast.Name) and isinstance(node.ctx, ast.Store):
                     self.assertFalse(node.id in taken | imported | functions, (name, node.id, node.lineno))
                 elif isinstance(node, ast.Name) and isinstance(node.ctx, ast.Load) and node.id in dir(builtins):
@@ -143,6 +143,17 @@ class Language(unittest.TestCase):
                     own = {w.id for g in node.generators for w in ast.walk(g.target) if isinstance(w, ast.Name)}
                     read = {w.id for g in inner for w in ast.walk(g) if isinstance(w, ast.Name)}
                     self.assertFalse(own & stored & read, (name, node.lineno))
+
+    def test_nothing_kept_that_is_iterated_once(self):
+        kept = {"range", "zip", "enumerate", "reversed", "map", "items", "keys", "values"}
+        for name, _, tree in files():
+            for node in ast.walk(tree):
+                if isinstance(node, (ast.Assign, ast.Return)) and isinstance(node.value, ast.Call):
+                    call = node.value.func
+                    word = call.id if isinstance(call, ast.Name) else call.attr
+                    self.assertFalse(word in kept, (name, node.lineno))
+                if isinstance(node, ast.Assign):
+                    self.assertNotIsInstance(node.value, ast.GeneratorExp, (name, node.lineno))
 
     def test_sets(self):
         for name, _, tree in files():

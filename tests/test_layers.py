@@ -54,6 +54,11 @@ class Tops(unittest.TestCase):
         self.assertEqual(layers.round_tops(DOUBLE, (0, -2)), (0,))
         self.assertEqual(layers.round_low_places(DOUBLE, (0, -2)), (1,))
         self.assertEqual(layers.round_tops(DOUBLE, (-2, 0)), (1,))
+        # The arrow 0 stands behind another letter along, and behind another one against.
+        self.assertEqual(layers.round_low_places((3, ((1, 2), (0, 1), (0, 2)), ()), (1, 0, -3)), (2,))
+        self.assertEqual(layers.round_tops((3, ((0, 1), (0, 2), (1, 2)), ()), (-3, -1, 1)), (2,))
+        self.assertEqual(layers.round_tops((3, ((0, 1), (0, 2), (2, 1)), ()), (0, -3, -2)), (0,))
+        self.assertEqual(layers.round_tops((3, ((0, 1), (1, 2), (0, 2)), ()), (0, 1, -3)), (0,))
 
     def test_drawn(self):
         rng = random.Random(150)
@@ -227,6 +232,26 @@ class Levels(unittest.TestCase):
                 told = tuple(tuple(row for a, (s, q) in enumerate(plan[1]) if q == p
                                    for row in mul(2, told[s], room[1][a], room[0][p])) for p in range(plan[0]))
         self.assertGreater(deep, 4)
+
+    def test_heights_and_ways(self):
+        # Units of height below N are those that each way of N arrows leads to nothing.
+        rng = random.Random(158)
+        for plan in naive.plans_for(158, 60):
+            walk = naive.drawn_walk(rng, plan, 12)
+            points, heights = naive.points(plan, walk), layers.heights(plan, walk)
+            room = walk_room(plan, walk)
+            ways = [(p, ()) for p in range(plan[0])]
+            for n in range(max(heights) + 2):
+                for p in range(plan[0]):
+                    rows = [()] * room[0][p]
+                    for start, row in ways:
+                        if start == p:
+                            table = rooms.way_table(plan, 2, room, p, row)
+                            rows = [one + other for one, other in zip(rows, table)]
+                    self.assertEqual(room[0][p] - rank(2, rows),
+                                     sum(q == p and height < n for q, height in zip(points, heights)))
+                ways = [(p, row + (a,)) for p, row in ways for a in range(len(plan[1]))
+                        if (naive.follows(plan, row[-1], a) if row else plan[1][a][0] == p)]
 
 
 class WayRank(unittest.TestCase):

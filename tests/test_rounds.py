@@ -5,6 +5,7 @@ import unittest
 
 from stringrooms import rounds
 from stringrooms.counting import band_number
+from stringrooms.forms import beside
 from stringrooms.walks import check_walk, string_of
 from tests import naive
 from tests.naive import CHAINED, DOUBLE, FULL, LOOP, POINT, TAILED, raised
@@ -195,6 +196,18 @@ class Bands(unittest.TestCase):
                 if many > 20:
                     seen[many > 500] += 1
         self.assertGreater(min(seen.values()), 3)
+
+    def test_five_hundred_and_one(self):
+        one = (4, ((0, 0), (0, 1), (2, 0), (1, 2), (3, 1), (3, 2)), ((0, 0), (1, 3), (2, 1), (3, 2)))
+        two = (4, ((0, 0), (0, 1), (2, 0), (1, 1), (1, 3), (2, 3)), ((0, 0), (1, 4), (2, 1), (3, 3)))
+        three = (6, ((0, 1), (1, 2), (1, 2), (3, 1), (3, 0), (2, 0), (2, 4), (5, 3), (5, 4)),
+                 ((0, 2), (1, 6), (2, 5), (3, 1), (5, 0), (7, 4)))
+        plan = beside(one, two)
+        self.assertEqual(band_number(plan, 18), 500)
+        self.assertEqual(len(rounds.bands(plan, 18)), 500)
+        plan = beside(two, three)
+        self.assertEqual(band_number(plan, 18), 501)
+        self.assertEqual(raised(rounds.bands, plan, 18), ("TooGreat", 500))
 
     def test_endless_ahead_of_too_great(self):
         self.assertEqual(raised(rounds.all_strings, FULL), ("Endless",))

@@ -4,6 +4,8 @@ import random
 import unittest
 
 from stringrooms import walks
+from stringrooms.counting import string_number
+from stringrooms.forms import beside
 from stringrooms.plans import renamed, turned_plan
 from tests import naive
 from tests.naive import DOUBLE, LINE, LOOP, POINT, RING, TWELVE, raised
@@ -159,6 +161,15 @@ class Strings(unittest.TestCase):
         self.assertEqual(len(walks.strings_upto(four, 999)), 2000)
         self.assertEqual(raised(walks.strings_upto, four, 1000), ("TooGreat", 2000))
         self.assertEqual(raised(walks.strings_upto, (3, four[1], ()), 999), ("TooGreat", 2000))
+        one = (4, ((0, 0), (0, 1), (2, 0), (1, 1), (1, 3), (2, 3)), ((0, 0), (1, 4), (2, 1), (3, 3)))
+        two = (6, ((0, 0), (1, 2), (2, 1), (2, 3), (3, 2), (4, 1), (1, 5), (3, 4), (5, 3)),
+               ((0, 0), (1, 3), (2, 1), (3, 4), (4, 2), (5, 6), (6, 8), (8, 7)))
+        self.assertEqual(len(walks.strings(beside(one, two), 12)), 2000)
+        one = (3, ((0, 0), (0, 1), (1, 2), (1, 2), (2, 1)), ((0, 0), (1, 3), (3, 4), (4, 2)))
+        two = (6, ((0, 0), (0, 1), (1, 2), (2, 1), (2, 3), (3, 2), (3, 4), (4, 4), (4, 5), (5, 5)),
+               ((0, 0), (2, 3), (3, 2), (4, 5), (5, 4), (6, 8), (7, 7), (9, 9)))
+        self.assertEqual(raised(walks.strings, beside(one, two), 11), ("TooGreat", 2000))
+        self.assertEqual(string_number(beside(one, two), 11), 2001)
 
 
 class Elsewhere(unittest.TestCase):
