@@ -162,7 +162,7 @@ def round_divisors(plan, prime, room, letters):
     point = ends_of(plan, letters[0])[0]
     width = room[0][point]
     every, nothing = one(width), ()
-    # Once is enough ahead of as many letters as there are units.
+    # Behind as many letters as there are units, going round once more changes neither.
     for _ in range(1 + -(-sum(room[0]) // len(letters))):
         for letter in letters:
             every, nothing = _both_behind(prime, room, every, nothing, letter)
