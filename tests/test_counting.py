@@ -25,6 +25,21 @@ def exact(plan, length):
     return numbers
 
 
+def capped_power(plan, row, steps, gather=False):
+    """The row of numbers of letters led on so many steps, by squaring the table; no number above 5 * MOST is exact."""
+    letters = list(naive.letters_of(plan))
+    table = [[int(naive.follows(plan, x, y)) for y in letters] + [int(gather)] * gather for x in letters]
+    table += [[0] * len(letters) + [1]] * gather
+    columns = range(len(table))
+    def led(entries, lines):
+        return [min(sum(a * line[k] for a, line in zip(entries, lines)), 5 * MOST) for k in columns]
+    while steps:
+        if steps % 2:
+            row = led(row, table)
+        table, steps = [led(line, table) for line in table], steps // 2
+    return row
+
+
 def capped(number):
     return ("TooGreat", MOST) if number > MOST else ("nothing raised", number)
 
@@ -83,6 +98,69 @@ class Numbers(unittest.TestCase):
                 strings = told[0] if length == 0 else told[length] // 2
                 self.assertEqual(raised(counting.string_number, plan, length), capped(strings))
                 total = told[0] + sum(told[1:length + 1]) // 2
+                self.assertEqual(raised(counting.string_total, plan, length), capped(total))
+
+    def test_great_lengths_told_before(self):
+        two = (4, ((0, 1), (0, 1), (2, 3), (2, 3), (1, 2)), ((0, 4), (4, 2)))
+        four = (5, ((0, 1), (0, 1), (1, 2), (1, 2), (2, 3), (2, 3), (3, 4), (3, 4)),
+                ((0, 2), (1, 3), (2, 4), (3, 5), (4, 6), (5, 7)))
+        # Asked a thousand times each, they come to an end.
+        for _ in range(1000):
+            self.assertEqual(counting.string_number(two, MOST - 4), MOST)
+            self.assertEqual(counting.walk_number(two, MOST // 2 - 4), MOST)
+            self.assertEqual(counting.between(two, -4, -2, 2 * MOST + 1), MOST)
+            self.assertEqual(counting.between(four, 0, 1, 10 ** 28), 0)
+        self.assertEqual(raised(counting.string_number, two, MOST - 3), ("TooGreat", MOST))
+        self.assertEqual(raised(counting.walk_number, two, MOST // 2 - 3), ("TooGreat", MOST))
+        self.assertEqual(raised(counting.between, two, -4, -2, 2 * MOST + 3), ("TooGreat", MOST))
+        self.assertEqual(raised(counting.between, four, 0, -3, 10 ** 28 + 1)[0], "TooGreat")
+
+    def test_great_lengths_by_squaring(self):
+        rng = random.Random(66)
+        met = {}
+        for plan in naive.plans_for(66, 60, 5) + [CHAINED] * 5 + naive.drawn_plans(67, 8, 12):
+            letters = list(naive.letters_of(plan))
+            if not letters:
+                continue
+            for most in (400, 10 ** 5, 10 ** 7, 10 ** 30):
+                length = rng.randint(most // 2, most)
+                walks = sum(capped_power(plan, [1] * len(letters), length - 1))
+                total = plan[0] + capped_power(plan, [1] * len(letters) + [0], length, True)[-1] // 2
+                self.assertEqual(raised(counting.walk_number, plan, length), capped(walks))
+                self.assertEqual(raised(counting.string_number, plan, length), capped(walks // 2))
+                self.assertEqual(raised(counting.string_total, plan, length), capped(total))
+                x = rng.choice(letters)
+                row = capped_power(plan, [int(x == y) for y in letters], length - 1)
+                for y, number in zip(letters, row):
+                    told = raised(counting.between, plan, x, y, length)
+                    self.assertEqual(told, capped(number))
+                    kind = min(number, 2) if number <= MOST else "great"
+                    met[kind] = met.get(kind, 0) + 1
+        self.assertEqual(set(met), {0, 1, 2, "great"})
+
+    def test_between_letter_by_letter(self):
+        rng = random.Random(68)
+        for plan in naive.plans_for(68, 40, 5) + [CHAINED] * 3:
+            letters = list(naive.letters_of(plan))
+            for x in letters[:4]:
+                row, length = {y: int(x == y) for y in letters}, 1
+                for _ in range(6):
+                    more = rng.choice((1, 2, 7, 20, 45))
+                    for _ in range(more):
+                        row = {y: sum(n for z, n in row.items() if naive.follows(plan, z, y)) for y in letters}
+                    length += more
+                    for y in letters:
+                        self.assertEqual(raised(counting.between, plan, x, y, length), capped(row[y]))
+
+    def test_totals_letter_by_letter(self):
+        rng = random.Random(69)
+        for plan in naive.plans_for(69, 40, 5) + [CHAINED, FULL]:
+            told = exact(plan, 400)
+            for length in sorted(rng.sample(range(401), 12)):
+                strings = told[0] if length == 0 else told[length] // 2
+                total = told[0] + sum(told[1:length + 1]) // 2
+                self.assertEqual(raised(counting.walk_number, plan, length), capped(told[length]))
+                self.assertEqual(raised(counting.string_number, plan, length), capped(strings))
                 self.assertEqual(raised(counting.string_total, plan, length), capped(total))
 
     def test_walks_come_in_pairs(self):
