@@ -112,12 +112,64 @@ def irreducible_number(prime, steps):
 
 def irreducibles(prime, steps):
     """Return all irreducible polynomials of a degree but x, ascending; TooGreat for more than 700 to choose from."""
-    polys = [()]
+    many = 1
     for _ in range(steps):
-        if len(polys) * prime > MOST_LISTED:
+        many = many * prime
+        if many > MOST_LISTED:
             raise TooGreat(MOST_LISTED)
-        polys = [poly + (number,) for poly in polys for number in range(prime)]
-    return tuple(poly for poly in polys if poly[0] != 0 and is_irreducible(prime, poly))
+    return tuple(_unstruck(prime, steps))
+
+
+def _unstruck(prime, steps):
+    """Return, ascending, the polynomials of a degree, but x, of which none of half the degree or less is a factor."""
+    polys = [(number,) for number in range(1, prime)]
+    if steps == 1:
+        return polys
+    numbers = list(range(prime))
+    for _ in range(steps - 1):
+        polys = [poly + (number,) for poly in polys for number in numbers]
+    struck = [False] * len(polys)
+    sums = [[0]]
+    for degree in range(1, steps // 2 + 1):
+        sums = _longer_sums(prime, sums, numbers)
+        for factor in _unstruck(prime, degree):
+            for place in _multiples(prime, factor, steps, sums):
+                struck[place] = True
+    return [poly for poly, out in zip(polys, struck) if not out]
+
+
+def _longer_sums(prime, sums, numbers):
+    """Return the table of sums of rows of numbers, told by their places among all such rows, for one number more."""
+    return [[entry * prime + (one + other) % prime for entry in line for other in numbers]
+            for line in sums for one in numbers]
+
+
+def _multiples(prime, factor, steps, sums):
+    """Return the places of the multiples of a factor among the polynomials of a degree that x does not divide.
+
+    All numbers but the first ones, as many as the factor's degree, may be
+    any: what they leave, divided by the factor, tells the first ones.
+    """
+    row = factor
+    rests = []
+    while len(rests) <= steps - len(factor):
+        if rests:
+            last = row[-1]
+            row = [(old - last * number) % prime for old, number in zip([0, *row], factor)]
+        place = 0
+        for number in row:
+            place = place * prime + number
+        rests.append(place)
+    firsts = [rests[-1]]
+    for rest in rests[:-1]:
+        lines = [sums[0]]
+        for _ in range(prime - 1):
+            lines.append(sums[lines[-1][rest]])
+        firsts = [line[first] for first in firsts for line in lines]
+    # Those that begin with 0, which x divides, come first of all.
+    less = len(sums) // prime
+    many = len(firsts)
+    return [(first - less) * many + place for place, first in enumerate(firsts) if first >= less]
 
 
 def _all_numbers(poly):

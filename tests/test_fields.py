@@ -136,6 +136,25 @@ class Polynomials(unittest.TestCase):
                 self.assertEqual(raised(fields.irreducibles, prime, steps), ("TooGreat", 700))
         self.assertEqual(fields.irreducibles(5, 1), ((1,), (2,), (3,), (4,)))
 
+    def test_irreducibles_are_just_those(self):
+        for prime in PRIMES:
+            steps = 1
+            while prime ** steps <= 700:
+                told = fields.irreducibles(prime, steps)
+                fitting = [p for p in monic(prime, steps) if p != (0,) and fields.is_irreducible(prime, p)]
+                self.assertEqual(told, tuple(fitting))
+                self.assertEqual(len(told), fields.irreducible_number(prime, steps) - (steps == 1))
+                steps += 1
+            for more in range(steps, 61):
+                self.assertEqual(raised(fields.irreducibles, prime, more), ("TooGreat", 700))
+
+    def test_irreducibles_asked_often(self):
+        # Asked some hundreds of times each, they come to an end.
+        for prime, steps in ((2, 9), (3, 5), (5, 4), (7, 3)):
+            first = fields.irreducibles(prime, steps)
+            for _ in range(300):
+                self.assertEqual(fields.irreducibles(prime, steps), first)
+
     def test_factors(self):
         self.assertEqual(fields.factors(3, ()), ())
         self.assertEqual(fields.factors(3, (0,)), (((0,), 1),))
