@@ -245,20 +245,30 @@ def _parted(prime, part, row):
     return found
 
 
+def put_row(kept, row, prime):
+    """Put a row to the kept ones, and tell whether it is no sum of these.
+
+    kept is a dict: for each leading place of their sums a row with 1 there
+    and 0 ahead of it.
+    """
+    rest = row
+    for place in range(len(row)):
+        entry = rest[place]
+        if entry == 0:
+            continue
+        if place not in kept:
+            factor = undone_number(prime, entry)
+            kept[place] = [number * factor % prime for number in rest]
+            return True
+        rest = [(number - entry * other) % prime for number, other in zip(rest, kept[place])]
+    return False
+
+
 def _leading_rows(rows, prime):
     """Return a dict: for each leading place of the sums of rows a row with 1 there and 0 ahead of it."""
     kept = {}
     for row in rows:
-        rest = row
-        for place in range(len(row)):
-            entry = rest[place]
-            if entry == 0:
-                continue
-            if place not in kept:
-                factor = undone_number(prime, entry)
-                kept[place] = [number * factor % prime for number in rest]
-                break
-            rest = [(number - entry * other) % prime for number, other in zip(rest, kept[place])]
+        put_row(kept, row, prime)
     return kept
 
 

@@ -161,8 +161,9 @@ def followers(plan, letter):
 
 def from_point(plan, point):
     """Return all letters that begin at a point, ascending."""
-    many = len(plan[1])
-    return tuple(letter for letter in range(-many, many) if ends_of(plan, letter)[0] == point)
+    along = [arrow for arrow, ends in enumerate(plan[1]) if ends[0] == point]
+    against = [-1 - arrow for arrow, ends in enumerate(plan[1]) if ends[1] == point]
+    return tuple(against[::-1] + along)
 
 
 def follow_table(plan):

@@ -56,6 +56,20 @@ TOLD = {
               " layer_number(plan,walk) way_rank(plan,walk,point,arrows)",
     "translating": "hooks(plan,string) pulled(plan,string) forth(plan,string) back(plan,string) middle(plan,string)"
                    " back_middle(plan,string) almost_split(plan,string) forth_times(plan,string,number)",
+    "rests": "cover_of(plan,point) tail_of(plan,arrow) rest_parts(plan,walk) rest_of(plan,walk)"
+             " round_rest(plan,letters)",
+    "bending": "bends(plan,upper,lower) arrow_sums(plan,upper,lower) crossing_sums(plan,upper,lower)"
+               " middle_rooms(plan,upper,lower) has_bent(plan,upper,lower)",
+    "bentrooms": "bent_number(plan,prime,room,other) bent_basis(plan,prime,room,other)"
+                 " bent_room(plan,prime,room,other,bend) band_bends(plan,prime,part,other)",
+    "nets": "net(plan) net_steps(plan) meshes(plan) covers_in(plan) hulls_in(plan) distance(plan,one,other)"
+            " net_parts(plan) map_table(plan) knits(plan,rows)",
+    "tubes": "tube(prime,poly,most) band_middle(prime,band,poly)",
+    "peace": "sign_of(plan,walk) stops(plan,other,walk) part_stops(plan,prime,part,walk) is_peaceful(plan,walk)"
+             " are_peaceful(plan,walk,other) peaceful(plan,length) signed(plan,signs,length)",
+    "blossoms": "blossomed(plan) check_long(plan,value) long_walk(plan,walk) long_mark(plan,point) long_ways(plan)"
+                " short_of(plan,value) long_sign(plan,value)",
+    "kisses": "kissing(plan,value,other) kisses(plan,value,other)",
     "roads": "road(plan,string,most) road_back(plan,string,most) rows_of(plan,string,most) grows(plan,string)",
 }
 

@@ -4,8 +4,8 @@ import copy
 import random
 import unittest
 
-from stringrooms import apart, counting, fields, forms, homs, layers, maps, pieces, plans, roads, rooms, rounds
-from stringrooms import tables, translating, walks, ways
+from stringrooms import apart, bending, bentrooms, blossoms, counting, fields, forms, homs, kisses, layers, maps, nets
+from stringrooms import peace, pieces, plans, rests, roads, rooms, rounds, tables, translating, tubes, walks, ways
 from tests import naive, naive_rooms
 
 
@@ -118,11 +118,41 @@ def room_calls(rng, plan):
                     (apart.round_divisors, (plan, prime, room, row))]
 
 
+def bend_calls(rng, plan):
+    """Calls of the functions of rests, bends, nets, tubes, peace, long walks and kisses with drawn arguments."""
+    prime = rng.choice(naive.PRIMES)
+    walk, other = naive.drawn_walk(rng, plan, 6), naive.drawn_walk(rng, plan, 6)
+    yield from [(f, (plan, walk)) for f in (
+        rests.rest_parts, rests.rest_of, peace.sign_of, peace.is_peaceful, blossoms.long_walk, blossoms.check_long)]
+    yield from [(f, (plan, walk, other)) for f in (
+        bending.bends, bending.arrow_sums, bending.crossing_sums, bending.middle_rooms, bending.has_bent, nets.distance,
+        peace.stops, peace.are_peaceful)]
+    yield from [(f, (plan,)) for f in (
+        nets.net, nets.net_steps, nets.meshes, nets.covers_in, nets.hulls_in, nets.net_parts, nets.map_table,
+        blossoms.blossomed, blossoms.long_ways)]
+    yield from [(f, (plan, walk[0])) for f in (rests.cover_of, blossoms.long_mark)]
+    yield from [(rests.tail_of, (plan, arrow)) for arrow in range(len(plan[1]))]
+    yield from [(peace.peaceful, (plan, 4)), (peace.signed, (plan, peace.sign_of(plan, walk), 6)),
+                (nets.knits, (plan, ((1,),))), (tubes.tube, (prime, (1,), 4)), (tubes.band_middle, (prime, (0, -2), (1,)))]
+    room, goal = rooms.string_room(plan, walk), rooms.string_room(plan, other)
+    yield from [(f, (plan, prime, room, goal)) for f in (bentrooms.bent_number, bentrooms.bent_basis)]
+    zero = tuple(tuple((0,) * goal[0][b] for _ in range(room[0][a])) for a, b in plan[1])
+    yield from [(bentrooms.bent_room, (plan, prime, room, goal, bend)) for bend in (zero, ())]
+    for part in naive_rooms.drawn_parts(rng, plan, prime, 10, 3):
+        yield from [(f, (plan, prime, part, ("string", walk))) for f in (bentrooms.band_bends,)]
+        yield (peace.part_stops, (plan, prime, part, walk))
+        if part[0] == "band":
+            yield (rests.round_rest, (plan, part[1]))
+    value, over = blossoms.long_walk(plan, walk), blossoms.long_walk(plan, other)
+    yield from [(f, (plan, value)) for f in (blossoms.check_long, blossoms.short_of, blossoms.long_sign)]
+    yield from [(f, (plan, value, over)) for f in (kisses.kissing, kisses.kisses)]
+
+
 class Throughout(unittest.TestCase):
     def test_calls(self):
         rng = random.Random(80)
         for plan in naive.plans_for(80, 40, 5):
-            for function, told in list(calls(rng, plan)) + list(room_calls(rng, plan)):
+            for function, told in [*calls(rng, plan), *room_calls(rng, plan), *bend_calls(rng, plan)]:
                 before = copy.deepcopy(told)
                 results = [naive.raised(function, *told) for _ in range(2)]
                 self.assertEqual(told, before, function)
