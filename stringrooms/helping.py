@@ -58,3 +58,46 @@ def primitive_number(length, totals):
     shorter row written several times.
     """
     return sum(moebius(length // part) * totals[part] for part in divisors_of(length))
+
+
+def solved_whole(rows, goals):
+    """Return the determinant D of a square table of integers, and a table for which rows times it is D times goals.
+
+    If D is 0, there is none: the table is (). All divisions on the way leave
+    nothing over, so all numbers are whole.
+    """
+    size = len(rows)
+    left = [list(row) + list(goal) for row, goal in zip(rows, goals)]
+    last, sign = 1, 1
+    for place in range(size):
+        fitting = [at for at in range(place, size) if left[at][place] != 0]
+        if not fitting:
+            return 0, ()
+        if fitting[0] > place:
+            left[place], left[fitting[0]] = left[fitting[0]], left[place]
+            sign = -sign
+        base = left[place]
+        pivot = base[place]
+        for at in range(size):
+            if at != place:
+                entry = left[at][place]
+                left[at] = [(pivot * old - entry * new) // last for old, new in zip(left[at], base)]
+        last = pivot
+    return sign * last, tuple(tuple(sign * entry for entry in row[size:]) for row in left)
+
+
+def ring_of(values, first, period):
+    """Return the least START and RING with which a row without end repeats itself from START on.
+
+    values are its beginning: from first on, it is known, it repeats itself
+    with the period, and values has first, then the period twice over.
+    """
+    ring = period
+    for part in divisors_of(period):
+        if values[first:first + period] == values[first + part:first + part + period]:
+            ring = part
+            break
+    start = first
+    while start > 0 and values[start - 1] == values[start - 1 + ring]:
+        start -= 1
+    return (start, ring)

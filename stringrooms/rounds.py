@@ -152,6 +152,17 @@ def all_strings(plan):
     return strings_upto(plan, longest(plan))
 
 
+def few_strings(plan, most):
+    """Return all strings, ascending; Endless with bands, TooGreat for more than most of them."""
+    if has_bands(plan):
+        raise Endless()
+    # Without bands no letter comes twice.
+    numbers = walk_numbers(plan, 2 * len(plan[1]))
+    if numbers[0] + sum(numbers[1:]) // 2 > most:
+        raise TooGreat(most)
+    return strings_upto(plan, 2 * len(plan[1]))
+
+
 def longest(plan):
     """Return the greatest number of letters of a string; Endless with bands."""
     if has_bands(plan):

@@ -31,7 +31,7 @@ def _full():
 
 
 FULL = _full()
-# Plans without bands that have 2506 and 1787 strings, and two that have 300 and 301 together.
+# Plans without bands that have 2506, 1787, 300 and 301 strings.
 GREAT = (8, ((1, 0), (2, 1), (0, 4), (5, 7), (1, 2), (5, 3), (7, 7), (7, 5), (0, 1), (3, 2), (2, 5)),
          ((0, 8), (1, 4), (3, 7), (4, 1), (6, 6), (7, 3), (8, 0), (9, 10), (10, 5)))
 WIDE = (12, ((9, 0), (5, 0), (10, 5), (1, 2), (7, 4), (8, 8), (4, 9), (9, 8), (4, 10), (8, 9), (11, 7), (2, 5), (3, 3),

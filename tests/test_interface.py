@@ -70,6 +70,22 @@ TOLD = {
     "blossoms": "blossomed(plan) check_long(plan,value) long_walk(plan,walk) long_mark(plan,point) long_ways(plan)"
                 " short_of(plan,value) long_sign(plan,value)",
     "kisses": "kissing(plan,value,other) kisses(plan,value,other)",
+    "lots": "check_lot(plan,value) is_full(plan,lot) most_lot(plan) least_lot(plan) sign_rows(plan,lot)"
+            " written(plan,lot,numbers) completed(plan,lot) completed_least(plan,lot)",
+    "exchanges": "greatest(plan,lot) exchange_step(plan,lot,number) exchange(plan,lot,number)"
+                 " exchanges(plan,lot,numbers)",
+    "lotlists": "all_lots(plan) lots_with(plan,lot) lot_at(plan,numbers)",
+    "making": "makes(plan,lot,walk) part_made(plan,prime,lot,part) reach(plan,strings,walk) first_part(plan,lot,walk)"
+              " over(plan,lot,other) made(plan,lot)",
+    "closed": "free_of(plan,strings) before(plan,strings) closed_by(plan,strings) is_closed(plan,strings)"
+              " lot_made(plan,strings) meet(plan,lot,other) join(plan,lot,other)",
+    "bricks": "bricks(plan) bricks_upto(plan,length) steps_down(plan,lot) steps_up(plan,lot) are_apart(plan,strings)"
+              " lot_of_bricks(plan,strings) brick_sets(plan)",
+    "farrests": "far_rest(plan,walk,steps) far_tails(plan,walk,steps) rest_length(plan,walk) rest_ring(plan,walk)"
+                " lasting(plan) plan_depth(plan)",
+    "farbends": "far_bends(plan,walk,other,steps) bends_row(plan,walk,other) bends_form(plan,walk,other)",
+    "waytables": "way_table(plan) ways_of_length(plan,steps) nothings_of_length(plan,steps) way_determinant(plan)"
+                 " undone_ways(plan)",
     "roads": "road(plan,string,most) road_back(plan,string,most) rows_of(plan,string,most) grows(plan,string)",
 }
 

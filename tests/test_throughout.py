@@ -4,9 +4,10 @@ import copy
 import random
 import unittest
 
-from stringrooms import apart, bending, bentrooms, blossoms, counting, fields, forms, homs, kisses, layers, maps, nets
-from stringrooms import peace, pieces, plans, rests, roads, rooms, rounds, tables, translating, tubes, walks, ways
-from tests import naive, naive_rooms
+from stringrooms import apart, bending, bentrooms, blossoms, bricks, closed, counting, exchanges, farbends, farrests
+from stringrooms import fields, forms, homs, kisses, layers, lotlists, lots, making, maps, nets, peace, pieces, plans
+from stringrooms import rests, roads, rooms, rounds, tables, translating, tubes, walks, ways, waytables
+from tests import naive, naive_lots, naive_rooms
 
 
 def is_plain(value):
@@ -148,11 +149,47 @@ def bend_calls(rng, plan):
     yield from [(f, (plan, value, over)) for f in (kisses.kissing, kisses.kisses)]
 
 
+def lot_calls(rng, plan):
+    """Calls of the functions of lots, exchanges, closed sets, bricks, far rests and tables of ways with drawn arguments."""
+    prime = rng.choice(naive.PRIMES)
+    lot, other = naive_lots.drawn_lot(rng, plan, 3), naive_lots.drawn_lot(rng, plan, 3)
+    part = naive_lots.some_of(rng, lot)
+    walk, above = naive.drawn_walk(rng, plan, 6), naive.drawn_walk(rng, plan, 6)
+    for one in (lot, part):
+        yield from [(f, (plan, one)) for f in (
+            lots.check_lot, lots.is_full, lots.sign_rows, lots.completed, lots.completed_least, exchanges.greatest,
+            lotlists.lots_with, bricks.steps_down, bricks.steps_up)]
+        yield from [(lots.written, (plan, one, tuple(range(plan[0])))), (exchanges.exchange_step, (plan, one, 0)),
+                    (exchanges.exchange, (plan, one, 0)), (exchanges.exchanges, (plan, one, (0, plan[0] - 1)))]
+    yield from [(f, (plan,)) for f in (
+        lots.most_lot, lots.least_lot, lotlists.all_lots, bricks.bricks, bricks.brick_sets, farrests.lasting,
+        farrests.plan_depth, waytables.way_table, waytables.way_determinant, waytables.undone_ways)]
+    yield from [(lotlists.lot_at, (plan, tuple(range(plan[0])))), (making.makes, (plan, lot, walk)),
+                (making.reach, (plan, lot[0], walk)), (making.first_part, (plan, lot, walk)), (making.made, (plan, lot)),
+                (making.over, (plan, lot, other)), (bricks.bricks_upto, (plan, 4))]
+    yield from [(making.part_made, (plan, prime, lot, one)) for one in naive_rooms.drawn_parts(rng, plan, prime, 10, 3)]
+    some = tuple(sorted({naive.string(plan, walk), naive.string(plan, above)}))
+    yield from [(f, (plan, some)) for f in (
+        closed.free_of, closed.before, closed.closed_by, closed.is_closed, closed.lot_made, bricks.are_apart,
+        bricks.lot_of_bricks)]
+    yield from [(f, (plan, lot, other)) for f in (closed.meet, closed.join)]
+    yield from [(f, (plan, walk, steps)) for f in (farrests.far_rest, farrests.far_tails) for steps in (1, 3, 10 ** 30)]
+    yield from [(f, (plan, walk)) for f in (farrests.rest_length, farrests.rest_ring)]
+    yield from [(f, (plan, walk, above)) for f in (farbends.bends_row, farbends.bends_form)]
+    yield from [(farbends.far_bends, (plan, walk, above, steps)) for steps in (0, 1, 10 ** 30)]
+    yield from [(f, (plan, steps)) for f in (waytables.ways_of_length, waytables.nothings_of_length)
+                for steps in (0, 2, 10 ** 30)]
+
+
+def every_call(rng, plan):
+    return [*calls(rng, plan), *room_calls(rng, plan), *bend_calls(rng, plan), *lot_calls(rng, plan)]
+
+
 class Throughout(unittest.TestCase):
     def test_calls(self):
         rng = random.Random(80)
         for plan in naive.plans_for(80, 40, 5):
-            for function, told in [*calls(rng, plan), *room_calls(rng, plan), *bend_calls(rng, plan)]:
+            for function, told in every_call(rng, plan):
                 before = copy.deepcopy(told)
                 results = [naive.raised(function, *told) for _ in range(2)]
                 self.assertEqual(told, before, function)
