@@ -79,6 +79,8 @@ def _row_number(follow, starts, ends, steps):
     if steps <= 2 * many:
         return _sum_at(_stepped(follow, starts, steps), ends)
     reach = _reached(follow)
+    if not any([bits >> place & 1 for place, bits in enumerate(reach)]):
+        return 0
     kept = _between_places(reach, starts, ends)
     forks = [place for place in kept if _is_fork(follow, reach, place)]
     if forks:
@@ -179,8 +181,8 @@ def _lefts(follow, firsts, period):
         here = waiting.pop()
         bits = (told[here] << 1 | told[here] >> (period - 1)) & full
         for other in follow[here]:
-            if bits & ~told[other]:
-                told[other] |= bits
+            if told[other] | bits != told[other]:
+                told[other] = told[other] | bits
                 waiting.append(other)
     return told
 

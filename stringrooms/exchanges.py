@@ -4,7 +4,7 @@ from stringrooms.blossoms import MOST_LONG, blossomed, long_in, short_in
 from stringrooms.errors import TooGreat
 from stringrooms.layers import hull_of
 from stringrooms.lots import check_full
-from stringrooms.plans import ahead_of, followers, nil_ahead_of, nil_of
+from stringrooms.plans import ahead_of, nil_ahead_of, nil_of
 from stringrooms.walks import points_of, string_of, turned
 from stringrooms.ways import longest_from
 
@@ -19,7 +19,6 @@ class Lines:
         self.bloom = blossomed(plan)
         self._kept = {}
         self._shorts = {}
-        self._others = {}
         self._ways = {}
 
     def long_borne(self, member):
@@ -34,12 +33,6 @@ class Lines:
         if value not in self._shorts:
             self._shorts[value] = short_in(self.bloom, value)
         return self._shorts[value]
-
-    def other_behind(self, letter, known):
-        """Return the letter, other than the known one, that may stand behind a letter."""
-        if (letter, known) not in self._others:
-            self._others[(letter, known)] = [one for one in followers(self.bloom, letter) if one != known][0]
-        return self._others[(letter, known)]
 
     def way_bearing(self, arrow):
         """Return the long way that bears an arrow."""
@@ -119,10 +112,11 @@ def exchanged_in(lines, members, number, places):
     """Return the long walks H', S, T and H, S, T', and the member told by H', S, T'; TooGreat likewise."""
     first, last = places
     letters = lines.long_borne(members[number])[0][1]
-    ahead, behind = _other_letters(lines, letters, first, last)
     others = members[:number] + members[number + 1:]
-    left, start = _reading(lines, others, ahead)
-    right, end = _reading(lines, others, behind)
+    # What else may stand at an end of the piece makes a nought there with what stands there: so for any piece,
+    # as in the blossomed plan each arrow goes on to one arrow and makes a nought with one.
+    left, start = _reading(lines, others, -1 - _nil_letter(lines.bloom, -1 - letters[first]))
+    right, end = _reading(lines, others, _nil_letter(lines.bloom, letters[last]))
     new = lines.short((left[0], left[1][:start + 1] + letters[first + 1:last] + right[1][end:]))
     if new[0] == "string" and len(new[1][1]) > MOST_LONG:
         raise TooGreat(MOST_LONG)
@@ -139,15 +133,6 @@ def step_in(lines, members, number, places):
     way = -1 if value[1][first] < 0 else 1
     sides = tuple(sorted([lines.short(left), lines.short(right)]))
     return (lot_of(members[:number] + members[number + 1:] + [new]), new, piece, way, sides)
-
-
-def _other_letters(lines, letters, first, last):
-    """Return the other letters that may stand ahead of and behind the piece between two places of a row of letters."""
-    start, end = -1 - letters[first], letters[last]
-    if first + 1 == last:
-        return (-1 - _nil_letter(lines.bloom, start), _nil_letter(lines.bloom, end))
-    ahead = lines.other_behind(-1 - letters[first + 1], start)
-    return (-1 - ahead, lines.other_behind(letters[last - 1], end))
 
 
 def _nil_letter(bloom, letter):

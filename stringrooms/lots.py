@@ -24,7 +24,8 @@ def check_lot(plan, value):
             raise NotLot("walk")
     if not _ascends(strings):
         raise NotLot("twice")
-    goals = [there for there in [back(plan, string) for string in strings] if there is not None]
+    before = [back(plan, string) for string in strings]
+    goals = [there for there in before if there is not None]
     for string in strings:
         if any(map_number(plan, string, goal) > 0 for goal in goals):
             raise NotLot("unlike")

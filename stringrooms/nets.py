@@ -23,10 +23,10 @@ def _numbered(strings):
 
 
 def _steps_from(plan):
-    """Return for each string the ascending list of the numbers of its middle."""
+    """Return for each string the list of the numbers of its middle, ascending as strings and their numbers do."""
     strings = net(plan)
     numbers = _numbered(strings)
-    return [sorted([numbers[there] for there in middle(plan, string)]) for string in strings]
+    return [[numbers[there] for there in middle(plan, string)] for string in strings]
 
 
 def net_steps(plan):
@@ -42,8 +42,8 @@ def meshes(plan):
     for number, string in enumerate(strings):
         there = forth(plan, string)
         if there is not None:
-            between = sorted([numbers[other] for other in middle(plan, string)])
-            told.append((number, tuple(between), numbers[there]))
+            between = tuple(numbers[other] for other in middle(plan, string))
+            told.append((number, between, numbers[there]))
     return tuple(told)
 
 

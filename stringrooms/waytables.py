@@ -49,6 +49,7 @@ def way_determinant(plan):
 
 def undone_ways(plan):
     """Return as a fraction table the one whose product with the table of ways is plain; NoWay if there is none."""
+    # The determinant is 0 or a power of 2.
     whole, rows = solved_whole(way_table(plan), one(plan[0]))
     if whole == 0:
         raise NoWay()
@@ -56,11 +57,9 @@ def undone_ways(plan):
 
 
 def fraction_table(rows, below):
-    """Return the fraction table of a table divided by an integer that is not 0."""
+    """Return the fraction table of a table divided by an integer above 0."""
     shared = below
     for row in rows:
         for entry in row:
             shared = gcd(shared, entry)
-    if below < 0:
-        shared = -shared
     return (tuple(tuple(entry // shared for entry in row) for row in rows), below // shared)

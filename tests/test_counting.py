@@ -138,6 +138,24 @@ class Numbers(unittest.TestCase):
                     met[kind] = met.get(kind, 0) + 1
         self.assertEqual(set(met), {0, 1, 2, "great"})
 
+    def test_between_over_several_forks(self):
+        # Letters that lead back to themselves in many ways, but at lengths with one divisor, in one lot or in more.
+        plans = ((2, ((0, 0), (0, 1), (1, 1)), ((0, 0), (2, 2))),
+                 (3, ((0, 2), (1, 2), (2, 0), (0, 1), (2, 1)), ((0, 2), (1, 4), (2, 3), (4, 1))),
+                 (4, ((3, 0), (1, 3), (0, 3), (2, 0), (3, 1), (1, 2)), ((0, 2), (1, 4), (2, 0), (4, 5))),
+                 (7, ((3, 2), (0, 4), (5, 3), (6, 0), (6, 3), (4, 6), (2, 0), (2, 4), (0, 6)),
+                  ((0, 6), (3, 1), (4, 0), (5, 4), (6, 8), (7, 5), (8, 3))))
+        for plan in plans:
+            letters = list(naive.letters_of(plan))
+            met = {}
+            for length in (10 ** 7, 10 ** 7 + 1, 10 ** 7 + 2):
+                for x in letters:
+                    row = capped_power(plan, [int(x == y) for y in letters], length - 1)
+                    for y, number in zip(letters, row):
+                        self.assertEqual(raised(counting.between, plan, x, y, length), capped(number))
+                        met[number > MOST] = True
+            self.assertEqual(len(met), 2)
+
     def test_between_letter_by_letter(self):
         rng = random.Random(68)
         for plan in naive.plans_for(68, 40, 5) + [CHAINED] * 3:

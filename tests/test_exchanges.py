@@ -240,7 +240,8 @@ class Rows(unittest.TestCase):
                 lot = told[1][0]
                 if start == least_lot and max(lengths) < 3 and told[1][3] == -1:
                     lot = exchanges.exchange(DOUBLE, lot, 0)
-        self.assertTrue(all(398 <= length <= 400 for length in met.values()), met)
+        # All lengths are even: a NEW of 400 letters is told, one of 402 is not.
+        self.assertEqual(list(met.values()), [400, 400])
 
     def test_few(self):
         for plan in (LINE, DOUBLE, TWELVE, CHAINED):

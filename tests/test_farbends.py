@@ -15,12 +15,12 @@ from stringrooms.rooms import string_room
 from stringrooms.walks import in_turned_plan, sizes_of, turned
 from tests import naive
 from tests.naive import CHAINED, DOUBLE, LINE, LINE_NOUGHT, LOOP, POINT, RING, TAILED, raised
-from tests.test_farrests import LONG, MEETING, step_by_step
+from tests.test_farrests import BOTH, LONG, MEETING, step_by_step
 
 
 def sample(seed, many, each=4, letters=6):
     rng = random.Random(seed)
-    for plan in naive.plans_for(seed, many, 5) + [RING, MEETING, LONG, LOOP, TAILED, CHAINED, naive.FULL] * 3:
+    for plan in naive.plans_for(seed, many, 5) + [RING, MEETING, BOTH, LONG, LOOP, TAILED, CHAINED, naive.FULL] * 3:
         for _ in range(each):
             yield rng, plan, naive.drawn_walk(rng, plan, letters), naive.drawn_walk(rng, plan, letters)
 
@@ -69,6 +69,8 @@ class Rows(unittest.TestCase):
         self.assertEqual(farbends.bends_row(RING, (0, ()), (0, ())), ((), (1, 0, 0)))
         self.assertEqual(farbends.bends_row(RING, (0, ()), (1, ())), ((), (0, 1, 0)))
         self.assertEqual(farbends.bends_row(LOOP, (0, (0,)), (0, ())), ((1,), (0,)))
+        # The row of noughts that ends is met at 1, 2, 3, 4 and leaves its last arrow's end in the fourth step.
+        self.assertEqual(farbends.bends_row(BOTH, (0, ()), (4, ())), ((0, 0, 0, 0, 1), (0,)))
 
     def test_drawn(self):
         met = {}

@@ -14,6 +14,8 @@ from tests.naive import CHAINED, DOUBLE, LINE, LINE_NOUGHT, LOOP, POINT, RING, T
 # Two round rows of noughts, of two and three arrows, that meet at one point.
 MEETING = (4, ((0, 1), (1, 0), (0, 2), (2, 3), (3, 0)), ((0, 1), (1, 0), (2, 3), (3, 4), (4, 2)))
 # A row of noughts of four arrows, and beside it a round one of two.
+# From the point 0 one row of noughts goes round, and one of four arrows ends.
+BOTH = (5, ((0, 0), (0, 1), (1, 2), (2, 3), (3, 4)), ((0, 0), (1, 2), (2, 3), (3, 4)))
 LONG = (7, ((0, 1), (1, 2), (2, 3), (3, 4), (5, 6), (6, 5)), ((0, 1), (1, 2), (2, 3), (4, 5), (5, 4)))
 
 
@@ -27,7 +29,7 @@ def step_by_step(plan, walk, many):
 
 def sample(seed, many, each=3):
     rng = random.Random(seed)
-    for plan in naive.plans_for(seed, many) + [RING, MEETING, LONG, LOOP, TAILED, CHAINED, naive.FULL] * 3:
+    for plan in naive.plans_for(seed, many) + [RING, MEETING, BOTH, LONG, LOOP, TAILED, CHAINED, naive.FULL] * 3:
         for _ in range(each):
             yield rng, plan, naive.drawn_walk(rng, plan, 7)
 
@@ -55,6 +57,9 @@ class Rests(unittest.TestCase):
         self.assertEqual(farrests.rest_ring(LOOP, (0, ())), (0, 1))
         self.assertEqual(farrests.rest_ring(RING, (0, ())), (0, 3))
         self.assertEqual(farrests.rest_ring(MEETING, (0, ()))[1], 6)
+        self.assertEqual(farrests.rest_ring(BOTH, (0, ())), (5, 1))
+        self.assertEqual(len(farrests.far_rest(BOTH, (0, ()), 4)), 2)
+        self.assertEqual(len(farrests.far_rest(BOTH, (0, ()), 5)), 1)
 
     def test_step_by_step(self):
         for rng, plan, walk in sample(360, 150):
