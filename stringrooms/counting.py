@@ -79,13 +79,18 @@ def _row_number(follow, starts, ends, steps):
     if steps <= 2 * many:
         return _sum_at(_stepped(follow, starts, steps), ends)
     reach = _reached(follow)
+    # There are more steps than places, so some place has to come back to itself.
     if not any([bits >> place & 1 for place, bits in enumerate(reach)]):
         return 0
     kept = _between_places(reach, starts, ends)
     forks = [place for place in kept if _is_fork(follow, reach, place)]
     if forks:
-        # With so many steps, each row that can meet a fork has rounds enough, put
-        # in at the fork in two ways, for more than 2 ** 62 rows of its length.
+        # A row over a fork is two rows without a round, one to it and one from
+        # it, and rounds of at most many steps that were put in. Let M be a number
+        # of steps that both short rounds of the fork divide: of any M of the
+        # rounds put in some are together a multiple of M, and may be changed for
+        # the one short round or for the other one. With so many steps that can be
+        # done more than 62 times, so there are more than 2 ** 62 such rows.
         if steps < 64 * many * many * many:
             return _sum_at(_led_row(starts, _letter_rows(follow), steps), ends)
         if any(_can_meet(follow, reach, fork, starts, ends, steps) for fork in forks):
