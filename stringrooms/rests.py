@@ -25,16 +25,19 @@ def rest_parts(plan, walk):
     """Return the points of the inner low places and the arrows of the tails of a walk, both ascending."""
     points = points_of(plan, walk)
     inner = [points[place] for place in low_places(plan, walk) if 0 < place < len(walk[1])]
-    return (tuple(sorted(inner)), tuple(sorted(_tail_arrows(plan, walk))))
+    arrows = [arrow for arrow in tail_ends(plan, walk) if arrow is not None]
+    return (tuple(sorted(inner)), tuple(sorted(arrows)))
 
 
-def _tail_arrows(plan, walk):
+def tail_ends(plan, walk):
+    """Return the arrows of the tails at the first and at the last place of a walk, None where there is none."""
     if not walk[1]:
-        return [arrow for arrow, ends in enumerate(plan[1]) if ends[0] == walk[0]]
+        arrows = [arrow for arrow, ends in enumerate(plan[1]) if ends[0] == walk[0]] + [None, None]
+        return (arrows[1], arrows[0])
     arrows = []
     for letter in (-1 - walk[1][0], walk[1][-1]):
         arrows.append(next_of(plan, letter) if letter >= 0 else mate_of(plan, -1 - letter))
-    return [arrow for arrow in arrows if arrow is not None]
+    return tuple(arrows)
 
 
 def rest_of(plan, walk):

@@ -86,6 +86,16 @@ TOLD = {
     "farbends": "far_bends(plan,walk,other,steps) bends_row(plan,walk,other) bends_form(plan,walk,other)",
     "waytables": "way_table(plan) ways_of_length(plan,steps) nothings_of_length(plan,steps) way_determinant(plan)"
                  " undone_ways(plan)",
+    "hulltables": "hull_table(plan) hull_power(plan,number) hull_order(plan) led_sizes(plan,sizes,number)",
+    "waypolynomials": "way_polynomial(plan) pair_polynomial(pairs)",
+    "threads": "sides(plan) threads_of_something(plan) threads_of_nothing(plan) rounds_of_nothing(plan) holes(plan)"
+               " hole_pairs(plan) genus(plan) hole_polynomial(plan)",
+    "chains": "check_chain(plan,value) chain_points(plan,chain) degrees(chain) chain_sizes(plan,chain)"
+              " chain_turned(plan,chain) chain_of(plan,chain) chains_of(plan,steps,arrows)",
+    "remains": "remains_of(plan,chain) remains_units(plan,chain)",
+    "coverchains": "cover_chain(plan,walk) cut_chain(plan,walk,steps) walk_of_chain(plan,chain)",
+    "chainnumbers": "chain_number(plan,prime,chain,other,shift) chain_form(plan,chain,other)",
+    "duals": "exchanged(plan) nought_ways(plan,point,other) signed_ways(plan)",
     "roads": "road(plan,string,most) road_back(plan,string,most) rows_of(plan,string,most) grows(plan,string)",
 }
 

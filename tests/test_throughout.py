@@ -4,10 +4,11 @@ import copy
 import random
 import unittest
 
-from stringrooms import apart, bending, bentrooms, blossoms, bricks, closed, counting, exchanges, farbends, farrests
-from stringrooms import fields, forms, homs, kisses, layers, lotlists, lots, making, maps, nets, peace, pieces, plans
-from stringrooms import rests, roads, rooms, rounds, tables, translating, tubes, walks, ways, waytables
-from tests import naive, naive_lots, naive_rooms
+from stringrooms import apart, bending, bentrooms, blossoms, bricks, chainnumbers, chains, closed, counting, coverchains
+from stringrooms import duals, exchanges, farbends, farrests, fields, forms, homs, hulltables, kisses, layers, lotlists
+from stringrooms import lots, making, maps, nets, peace, pieces, plans, remains, rests, roads, rooms, rounds, tables
+from stringrooms import threads, translating, tubes, walks, waypolynomials, ways, waytables
+from tests import naive, naive_chains, naive_lots, naive_rooms
 
 
 def is_plain(value):
@@ -181,8 +182,30 @@ def lot_calls(rng, plan):
                 for steps in (0, 2, 10 ** 30)]
 
 
+def chain_calls(rng, plan):
+    """Calls of the functions of hull tables, threads, chains and exchanged plans with drawn arguments."""
+    prime, number = rng.choice(naive.PRIMES), rng.choice((0, 1, -3, 10 ** 30, -10 ** 30))
+    chain, other = naive_chains.drawn_chain(rng, plan, 5), naive_chains.drawn_chain(rng, plan, 5)
+    walk, point = naive.drawn_walk(rng, plan, 6), rng.randrange(plan[0])
+    yield from [(f, (plan,)) for f in (
+        hulltables.hull_table, hulltables.hull_order, waypolynomials.way_polynomial, threads.sides,
+        threads.threads_of_something, threads.threads_of_nothing, threads.rounds_of_nothing, threads.holes,
+        threads.hole_pairs, threads.genus, threads.hole_polynomial, duals.exchanged, duals.signed_ways)]
+    yield from [(hulltables.hull_power, (plan, number)), (duals.nought_ways, (plan, point, 0)),
+                (hulltables.led_sizes, (plan, tuple(range(plan[0])), number)),
+                (waypolynomials.pair_polynomial, (((2, 1), (0, 3)),)), (chains.degrees, (chain,)),
+                (chains.chains_of, (plan, rng.randint(0, 4), rng.randint(0, 6))),
+                (coverchains.cover_chain, (plan, walk)), (coverchains.cut_chain, (plan, walk, rng.randint(1, 4)))]
+    yield from [(f, (plan, chain)) for f in (
+        chains.check_chain, chains.chain_points, chains.chain_sizes, chains.chain_turned, chains.chain_of,
+        remains.remains_of, remains.remains_units, coverchains.walk_of_chain)]
+    yield from [(chainnumbers.chain_number, (plan, prime, chain, other, rng.randint(-2, 2))),
+                (chainnumbers.chain_form, (plan, chain, other))]
+
+
 def every_call(rng, plan):
-    return [*calls(rng, plan), *room_calls(rng, plan), *bend_calls(rng, plan), *lot_calls(rng, plan)]
+    return [*calls(rng, plan), *room_calls(rng, plan), *bend_calls(rng, plan), *lot_calls(rng, plan),
+            *chain_calls(rng, plan)]
 
 
 class Throughout(unittest.TestCase):
