@@ -101,3 +101,11 @@ def ring_of(values, first, period):
     while start > 0 and values[start - 1] == values[start - 1 + ring]:
         start -= 1
     return (start, ring)
+
+
+def whole_power(number, steps):
+    """Return the power of a whole number with an exponent from 0."""
+    told = 1
+    for _ in range(steps):
+        told = told * number
+    return told

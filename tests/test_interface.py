@@ -2,7 +2,11 @@
 
 import importlib
 import inspect
+import os
+import re
 import unittest
+
+from stringrooms import book, errors
 
 TOLD = {
     "plans": "check_plan(value) is_plan(value) ends_of(plan,letter) next_of(plan,arrow) nil_of(plan,arrow)"
@@ -96,11 +100,57 @@ TOLD = {
     "coverchains": "cover_chain(plan,walk) cut_chain(plan,walk,steps) walk_of_chain(plan,chain)",
     "chainnumbers": "chain_number(plan,prime,chain,other,shift) chain_form(plan,chain,other)",
     "duals": "exchanged(plan) nought_ways(plan,point,other) signed_ways(plan)",
+    "glue": "glued(plan,point,other) joined_at(plan,point,other) corner_ways(plan,kept) corner(plan,kept)"
+            " corner_room(plan,prime,room,kept) doubled(plan,crossing) laid_down(plan,walk)"
+            " lifted(plan,crossing,walk,sheet) laid_room(plan,crossing,prime,room)",
+    "sizes": "strings_of(plan,units) bands_of(plan,units) room_number(plan,prime,units)",
+    "roomlists": "room_list(plan,prime,units) changes(prime,units) own_changes(plan,prime,parts)"
+                 " room_total(plan,prime,units)",
+    "sizeforms": "form_table(plan) size_form(plan,units,others) own_form(plan,units)",
+    "texts": "plan_text(plan) read_plan(text) walk_text(plan,walk) read_walk(plan,text)",
+    "roomtexts": "room_text(plan,room) read_room(plan,prime,text)",
+    "claims": "check_claim(plan,value) holds(plan,claim) opposite(claim) claim_text(plan,claim) read_claim(plan,text)",
+    "sheets": "sheet_text(plan,claims) read_sheet(text) answers(plan,claims) amended(plan,claims)",
     "roads": "road(plan,string,most) road_back(plan,string,most) rows_of(plan,string,most) grows(plan,string)",
 }
 
+BOOK = ("exchange(self,number) undo(self) redo(self) numbers(self) lots(self) pieces(self) mark(self,name) go(self,name)"
+        " names(self) tried(self,numbers) copy(self) __init__(self,plan,lot)")
+
 
 class Interface(unittest.TestCase):
+    def test_document(self):
+        """Each name that the document lists under a file is listed here for it."""
+        document = os.path.join(os.path.dirname(os.path.dirname(os.path.dirname(os.path.abspath(__file__)))),
+                                "shared", "DOC.md")
+        if not os.path.exists(document):
+            self.skipTest("no document beside this checkout")
+        with open(document, encoding="utf-8") as file:
+            sections = file.read().split("# The interface\n")[1].split("\n## stringrooms/")[1:]
+        for section in sections:
+            head, text = section.split("\n", 1)
+            file = head[:-3]
+            listed = re.findall(r"`([A-Za-z_]+)(?:\([^`]*\))?`", text)
+            self.assertTrue(listed, file)
+            if file == "errors":
+                known = [name for name in dir(errors) if not name.startswith("_")]
+            elif file == "book":
+                known = ["Book"] + re.findall(r"(\w+)\(", BOOK)
+            else:
+                known = re.findall(r"(\w+)\(", TOLD[file])
+                self.assertEqual(listed, [name for name in listed if name in known], file)
+                self.assertEqual(sorted(listed), sorted(known), file)
+            self.assertTrue(set(listed) <= set(known), (file, set(listed) - set(known)))
+
+    def test_book(self):
+        for entry in BOOK.split():
+            name, parameters = entry[:-1].split("(")
+            method = vars(book.Book)[name]
+            self.assertEqual(list(inspect.signature(method).parameters), parameters.split(","), entry)
+        self.assertIsInstance(vars(book.Book)["lot"], property)
+        self.assertEqual(book.Book.__module__, "stringrooms.book")
+        self.assertIsNone(inspect.signature(book.Book).parameters["lot"].default)
+
     def test_names_and_parameters(self):
         for file, told in TOLD.items():
             module = importlib.import_module("stringrooms." + file)

@@ -10,7 +10,7 @@ LIBRARY = {"heapq": {"heappush", "heappop", "heapify"}, "math": {"gcd", "lcm", "
            "itertools": {"product", "combinations", "permutations", "chain", "accumulate", "pairwise", "islice"},
            "collections": {"defaultdict", "deque"}}
 CALLED = {"len", "range", "enumerate", "zip", "min", "max", "sum", "abs", "sorted", "reversed", "int", "str", "bool",
-          "list", "tuple", "dict", "set", "isinstance", "ord", "repr", "any", "all", "divmod", "ValueError"}
+          "list", "tuple", "dict", "set", "isinstance", "ord", "repr", "any", "all", "divmod", "ValueError", "property"}
 METHODS = {"append", "clear", "copy", "count", "endswith", "extend", "find", "get", "index", "insert", "isalnum",
            "isalpha", "isdigit", "items", "join", "keys", "lower", "partition", "pop", "remove", "replace", "reverse",
            "setdefault", "split", "startswith", "strip", "update", "upper", "values", "bit_length"}
@@ -95,7 +95,7 @@ class Language(unittest.TestCase):
             for node in ast.walk(tree):
                 if isinstance(node, ast.FunctionDef):
                     self.assertLessEqual(node.end_lineno - node.lineno + 1, 40, (name, node.name))
-                    self.assertFalse(node.decorator_list)
+                    self.assertTrue(all(word.id == "property" for word in node.decorator_list), (name, node.name))
                 self.assertNotIsInstance(node, (ast.AsyncFunctionDef, ast.Global, ast.Import, ast.AnnAssign, ast.Yield,
                                                 ast.YieldFrom, ast.With, ast.Div), (name, node))
 

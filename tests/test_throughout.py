@@ -1,14 +1,17 @@
 """[1] What holds throughout: kinds of results, nothing changed, equal calls with equal results."""
 
 import copy
+import importlib
+import inspect
 import random
 import unittest
 
-from stringrooms import apart, bending, bentrooms, blossoms, bricks, chainnumbers, chains, closed, counting, coverchains
-from stringrooms import duals, exchanges, farbends, farrests, fields, forms, homs, hulltables, kisses, layers, lotlists
-from stringrooms import lots, making, maps, nets, peace, pieces, plans, remains, rests, roads, rooms, rounds, tables
-from stringrooms import threads, translating, tubes, walks, waypolynomials, ways, waytables
-from tests import naive, naive_chains, naive_lots, naive_rooms
+from stringrooms import apart, bending, bentrooms, blossoms, bricks, chainnumbers, chains, claims, closed, counting
+from stringrooms import coverchains, duals, exchanges, farbends, farrests, fields, forms, glue, homs, hulltables, kisses
+from stringrooms import layers, lotlists, lots, making, maps, nets, peace, pieces, plans, remains, rests, roads
+from stringrooms import roomlists, rooms, roomtexts, rounds, sheets, sizeforms, sizes, tables, texts, threads
+from stringrooms import translating, tubes, walks, waypolynomials, ways, waytables
+from tests import naive, naive_chains, naive_lots, naive_rooms, test_claims, test_interface
 
 
 def is_plain(value):
@@ -34,6 +37,11 @@ def calls(rng, plan):
         counting.string_total, counting.band_number)]
     yield from [(f, (plan, point)) for f in (plans.from_point, ways.ways_from, ways.ways_into)]
     yield (forms.renaming, (plan, plan))
+    about = (tuple(range(plan[0]))[::-1], tuple(range(len(plan[1])))[::-1])
+    yield from [(plans.renamed, (plan, *about)), (plans.renamed, (plan, (), 7)), (forms.beside, (plan, plan)),
+                (walks.in_renamed_plan, (plan, walk, *about)), (forms.small_plans, (rng.randint(1, 2),))]
+    yield from [(f, (plan, walk, naive.drawn_walk(rng, plan, 3))) for f in (walks.joined, ways.way_behind)]
+    yield from [(fields.check_prime, (rng.randrange(9),)), (fields.undone_number, (7, rng.randrange(-9, 99)))]
     yield (ways.ways_between, (plan, point, 0))
     yield (forms.sub_plan, (plan, tuple(range(point + 1))))
     if plan[1]:
@@ -203,21 +211,60 @@ def chain_calls(rng, plan):
                 (chainnumbers.chain_form, (plan, chain, other))]
 
 
+def text_calls(rng, plan):
+    """Calls of the functions of glued plans, sizes, lists of rooms, texts, claims and sheets with drawn arguments."""
+    prime, size = rng.choice(naive.PRIMES), plan[0]
+    room, walk, sheet = naive_rooms.drawn_room(rng, plan, prime, 2), naive.drawn_walk(rng, plan, 6), rng.randrange(2)
+    kept = tuple(sorted(rng.sample(range(size), rng.randint(1, size))))
+    crossing = tuple(a for a in range(len(plan[1])) if rng.random() < 0.5)
+    units = tuple(rng.randint(0, 1 if size > 4 else 2) for _ in range(size))
+    if size > 1:
+        yield from [(f, (plan, 0, rng.randrange(1, size))) for f in (glue.glued, glue.joined_at)]
+    yield from [(glue.corner_ways, (plan, kept)), (glue.corner, (plan, kept)),
+                (glue.corner_room, (plan, prime, room, kept)), (glue.doubled, (plan, crossing)),
+                (glue.lifted, (plan, crossing, walk, sheet)),
+                (glue.laid_down, (plan, glue.lifted(plan, crossing, walk, sheet)))]
+    if size <= 6:
+        over = rooms.empty_room(glue.doubled(plan, crossing))
+        yield (glue.laid_room, (plan, crossing, prime, over))
+    yield from [(f, (plan, units)) for f in (sizes.strings_of, sizes.bands_of, sizeforms.own_form)]
+    yield from [(f, (plan, prime, units)) for f in (sizes.room_number, roomlists.room_list, roomlists.room_total)]
+    yield from [(roomlists.changes, (prime, units)), (roomlists.own_changes, (plan, prime, (((walk, 2),), ()))),
+                (sizeforms.form_table, (plan,)), (sizeforms.size_form, (plan, units, room[0]))]
+    told = (test_claims.drawn_claim(rng, plan), ("not", test_claims.drawn_claim(rng, plan)))
+    yield from [(f, (plan, value)) for value in (walk, told[0], told[1], ("not",)) for f in (claims.check_claim,)]
+    yield from [(f, (plan, claim)) for claim in told for f in (claims.holds, claims.claim_text)]
+    yield from [(f, (plan, told)) for f in (sheets.sheet_text, sheets.answers, sheets.amended)]
+    text = rng.choice(("", " ", "\n0", " 0"))
+    yield from [(texts.plan_text, (plan,)), (texts.walk_text, (plan, walk)), (roomtexts.room_text, (plan, room)),
+                (texts.read_plan, (texts.plan_text(plan) + text,)), (claims.opposite, (told[0],)),
+                (texts.read_walk, (plan, texts.walk_text(plan, walk) + text)),
+                (roomtexts.read_room, (plan, prime, roomtexts.room_text(plan, room) + text)),
+                (claims.read_claim, (plan, claims.claim_text(plan, told[1]) + text)),
+                (sheets.read_sheet, (sheets.sheet_text(plan, told) + text,))]
+
+
 def every_call(rng, plan):
     return [*calls(rng, plan), *room_calls(rng, plan), *bend_calls(rng, plan), *lot_calls(rng, plan),
-            *chain_calls(rng, plan)]
+            *chain_calls(rng, plan), *text_calls(rng, plan)]
 
 
 class Throughout(unittest.TestCase):
     def test_calls(self):
         rng = random.Random(80)
+        called = set()
         for plan in naive.plans_for(80, 40, 5):
             for function, told in every_call(rng, plan):
+                called.add(function)
                 before = copy.deepcopy(told)
                 results = [naive.raised(function, *told) for _ in range(2)]
+                results.append(naive.raised(function, **dict(zip(inspect.signature(function).parameters, told))))
                 self.assertEqual(told, before, function)
-                self.assertEqual(results[0], results[1], function)
+                self.assertTrue(results[0] == results[1] == results[2], function)
                 self.assertTrue(is_plain(results[0]), (function, results[0]))
+        known = {getattr(importlib.import_module("stringrooms." + file), entry.split("(")[0])
+                 for file, told in test_interface.TOLD.items() for entry in told.split()}
+        self.assertEqual(sorted(f.__module__ + "." + f.__name__ for f in known - called), [])
 
 
 if __name__ == "__main__":
