@@ -27,13 +27,10 @@ def cut_chain(plan, walk, steps):
 def walk_of_chain(plan, chain):
     """Return the string whose cover chain a chain or it turned is; raise NoWay if there is none."""
     remains = remains_of(plan, chain)
-    # What a cover chain leaves is its string alone.
-    if [len(strings) for strings in remains] != [1] + [0] * (len(remains) - 1):
+    # A chain is the cover chain of a string just if it leaves this string in degree 0, and nothing else.
+    if len(remains[0]) != 1 or any(remains[1:]):
         raise NoWay()
-    string = remains[0][0]
-    if rest_length(plan, string) is None or cover_chain(plan, string) != chain_of(plan, chain):
-        raise NoWay()
-    return string
+    return remains[0][0]
 
 
 def _chain_upto(plan, walk, most):

@@ -4,7 +4,6 @@ from math import lcm
 
 from stringrooms.errors import NoWay
 from stringrooms.helping import solved_whole
-from stringrooms.plans import turned_plan
 from stringrooms.tables import one
 from stringrooms.threads import hole_pairs
 from stringrooms.waytables import fraction_table, way_table
@@ -24,24 +23,20 @@ def hull_power(plan, number):
     """Return the fraction table of the hull table taken so often; NoWay likewise.
 
     Taken as often as the turn tells, the table is one and a table some power
-    of which is nothing: so greater powers are sums with binomial numbers.
+    of which is nothing: so other powers, those below 0 too, are sums with
+    binomial numbers.
     """
-    if number < 0:
-        # With all arrows turned, the table of ways is turned over, and the hull table undone.
-        return hull_power(turned_plan(plan), -number)
     table = hull_table(plan)
     turn = _turn(plan)
     around = _less_one(_power(table, turn))
     told = _power(table, number % turn)
-    left = told
-    turns, choose, done = number // turn, 1, 0
-    while True:
-        choose = choose * (turns - done) // (done + 1)
+    part, choose, done = told, 1, 0
+    while any([any(row) for row in part[0]]):
+        choose = choose * (number // turn - done) // (done + 1)
         done += 1
-        left = _product(left, around)
-        if choose == 0 or not any(any(row) for row in left[0]):
-            return told
-        told = _sum(told, left, choose)
+        part = _product(part, around)
+        told = _sum(told, part, choose)
+    return told
 
 
 def hull_order(plan):

@@ -22,9 +22,9 @@ def is_number(word):
 
 
 def check_word(words, line, at, known):
-    """Raise NotText if a word of a line lacks, or is none of the known ones."""
+    """Raise NotText if a word of a line lacks, where it is the next one, or is none of the known ones."""
     if at >= len(words) or words[at] not in known:
-        raise NotText(line, min(at, len(words)))
+        raise NotText(line, at)
 
 
 def check_end(words, line, at):
@@ -36,7 +36,7 @@ def check_end(words, line, at):
 def number_at(words, line, at):
     """Return the number that stands at a word of a line; raise NotText if none does."""
     if at >= len(words) or not is_number(words[at]):
-        raise NotText(line, min(at, len(words)))
+        raise NotText(line, at)
     return int(words[at])
 
 

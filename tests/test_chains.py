@@ -49,6 +49,8 @@ class Check(unittest.TestCase):
         for step in wrong:
             self.assertEqual(raised(chains.check_chain, LINE, (0, (step,))), ("NotWalk", 0), step)
             self.assertEqual(raised(chains.check_chain, LINE_NOUGHT, (0, (ALONG, step))), ("NotWalk", 1), step)
+        for step in ((2, (0,)), (0, (0,)), (-2, (0,)), (False, (0,)), (-1.0, (0,)), (-1, 7), (-1, None), (-1, "0"), (-1, {0: 1})):
+            self.assertEqual(raised(chains.check_chain, LINE, (1, (step,))), ("NotWalk", 0), step)
         # A nought is not next; another beginning; a way that goes on makes no chain.
         self.assertEqual(raised(chains.check_chain, LINE_NOUGHT, (0, ((1, (0, 1)),))), ("NotWalk", 0))
         self.assertEqual(raised(chains.check_chain, LINE, (1, (ALONG,))), ("NotWalk", 0))

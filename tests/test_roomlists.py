@@ -11,7 +11,7 @@ from stringrooms.rooms import check_room, parts_room
 from stringrooms.sizes import room_number
 from tests import naive, naive_rooms
 from tests.naive import CHAINED, DOUBLE, LINE, LINE_NOUGHT, LOOP, POINT, RING, TAILED, TWELVE, raised
-from tests.test_sizes import drawn_units, sample
+from tests.test_sizes import LOOPS, SQUARE, drawn_units, sample
 
 EMPTY = ((), ())
 
@@ -129,10 +129,18 @@ class Lists(unittest.TestCase):
                 met["bands"] += bool(parts[1])
         self.assertGreater(met["bands"], 50, met)
 
+    def test_each_room_of_some_lists(self):
+        for plan, prime, units in ((DOUBLE, 3, (3, 3)), (DOUBLE, 2, (3, 3)), (SQUARE, 3, (2, 2, 2, 2)), (LOOPS, 2, (4, 2)),
+                                   (CHAINED, 2, (2, 2, 1, 1)), (TAILED, 5, (1, 2, 2, 1))):
+            told = roomlists.room_list(plan, prime, units)
+            self.assertEqual(len(told), room_number(plan, prime, units))
+            self.assertEqual(told, tuple(parts_of_room(plan, prime, room_of(plan, prime, parts)) for parts in told))
+            self.assertGreater(len([parts for parts in told if parts[1]]), 1)
+
     def test_by_trying(self):
         rng = random.Random(523)
         met = 0
-        for plan in naive.plans_for(524, 150, 4) + [RING, TAILED, CHAINED, DOUBLE, LOOP] * 4:
+        for plan in naive.plans_for(524, 150, 4) + [RING, TAILED, CHAINED, DOUBLE, LOOP, LOOPS, SQUARE] * 4:
             prime, units = rng.choice((2, 2, 3)), drawn_units(rng, plan, 6)
             if prime ** sum(units[a] * units[b] for a, b in plan[1]) > 700:
                 continue

@@ -8,6 +8,11 @@ from stringrooms import sizes
 from tests import naive
 from tests.naive import CHAINED, DOUBLE, LINE, LINE_NOUGHT, LOOP, POINT, RING, TAILED, TWELVE, raised
 
+# Plans with endlessly many bands, some as long as others written twice, and one with a band of four letters alone.
+LOOPS = (2, ((0, 0), (0, 1), (1, 1)), ((0, 0), (2, 2)))
+TURNING = (3, ((0, 1), (1, 0), (1, 2), (2, 0), (0, 2)), ((0, 2), (1, 0), (3, 4), (4, 3)))
+SQUARE = (4, ((0, 1), (0, 2), (1, 3), (2, 3)), ())
+
 
 def units_of(plan, points):
     return tuple(points.count(p) for p in range(plan[0]))
@@ -164,6 +169,16 @@ class Numbers(unittest.TestCase):
         self.assertGreater(great, 10)
         for units in ((4, 4), (5, 5), (3, 6)):
             self.assertEqual(sizes.room_number(DOUBLE, 3, units), number_by(DOUBLE, 3, units))
+
+    def test_many_bands(self):
+        for plan, units, many in ((LOOPS, (2, 2), 2), (LOOPS, (4, 4), 5), (TURNING, (2, 2, 2), 3), (TURNING, (3, 3, 3), 4),
+                                  (SQUARE, (1, 1, 1, 1), 1), (SQUARE, (2, 2, 2, 2), 1), (SQUARE, (2, 2, 3, 2), 0)):
+            bands = sizes.bands_of(plan, units)
+            self.assertEqual(bands, bands_by(plan, units))
+            self.assertEqual(len(bands), many)
+            self.assertEqual(sizes.strings_of(plan, units), strings_by(plan, units))
+            for prime in (2, 7):
+                self.assertEqual(sizes.room_number(plan, prime, units), number_by(plan, prime, units))
 
     def test_bound(self):
         # One more unit at each point has some seven times as many rooms: the bound lies between two of these numbers.
