@@ -156,9 +156,11 @@ def _shared(taken):
 def count_rooms(plan, prime, units):
     """Return how many rooms, no two of them alike, have just these units, however many they are.
 
-    For the numbers N of rooms by sizes, told as a series F, and for a point:
-    how often the point comes in all, so many times N, is a sum of products
-    of N with what the series of the point's share of log F has.
+    The numbers of rooms by sizes make a series F: the product of a series for
+    each string and each band. How often a point comes in some sizes, times
+    their number, is the sum over all parts of these sizes of the part's share
+    times the number for what is left; the share is the coefficient of log F,
+    times how often the point comes in the part.
     """
     shares = [[] for _ in units]
     for taken, number in _log_shares(plan, prime, units).items():
@@ -196,10 +198,10 @@ def _all_within(units):
 
 
 def _log_shares(plan, prime, units):
-    """Return a dict: for sizes the coefficient of log F there, times what divides them all.
+    """Return a dict: for sizes the coefficient of log F there, times the greatest number that divides them all.
 
-    A string that comes any number of times has 1 / (1 - y), a band the
-    product over K of (1 - y^K) / (1 - P y^K), y told by its sizes.
+    A string, which may come any number of times, has the series 1 / (1 - y),
+    a band the product over K of (1 - y^K) / (1 - P y^K), y told by its sizes.
     """
     told = {}
     for counts, is_band in ((_string_counts(plan, units), False), (_band_counts(plan, units), True)):
@@ -214,5 +216,5 @@ def _log_shares(plan, prime, units):
 
 
 def _band_share(prime, many):
-    """Return how many times the coefficient of y^N in the logarithm of a band's series is, N times taken."""
+    """Return N times the coefficient of y^N in the logarithm of a band's series."""
     return sum(part * (whole_power(prime, many // part) - 1) for part in divisors_of(many))
